@@ -1,0 +1,40 @@
+"""The interface: names and arguments as the document lists them, and a package that binds nothing."""
+
+import importlib
+import inspect
+import subprocess
+import sys
+import unittest
+
+FUNCTIONS = {
+    "makings": {"is_making": ["thing"], "names_in": ["making"], "parts_in": ["making"]},
+    "books": {
+        "is_book": ["thing"], "may_be_bare": ["book", "making"], "bare_names": ["book", "making"], "unfair": ["book"],
+        "need_fair": ["book"],
+    },
+    "counts": {
+        "count": ["book", "making", "size"], "counts": ["book", "making", "most"],
+        "first_size": ["book", "making", "most"],
+    },
+}
+
+
+class InterfaceTest(unittest.TestCase):
+    def test_functions(self):
+        for module, functions in FUNCTIONS.items():
+            found = importlib.import_module("countworks." + module)
+            for name, arguments in functions.items():
+                with self.subTest(module=module, name=name):
+                    told = inspect.signature(getattr(found, name)).parameters
+                    self.assertEqual(list(told), arguments)
+                    for one in told.values():
+                        self.assertEqual((one.kind, one.default), (one.POSITIONAL_OR_KEYWORD, one.empty))
+
+    def test_the_package_binds_nothing(self):
+        ask = "import countworks; print([name for name in vars(countworks) if not name.startswith('__')])"
+        told = subprocess.run([sys.executable, "-c", ask], capture_output=True, text=True, check=True)
+        self.assertEqual(told.stdout.strip(), "[]")
+
+
+if __name__ == "__main__":
+    unittest.main()
