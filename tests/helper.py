@@ -11,6 +11,13 @@ NONE = ("none",)
 UNIT = ("unit",)
 A = ("atom", "a")
 B = ("atom", "b")
+C = ("atom", "c")
+AB = ("sum", A, B)
+ABC = ("sum", A, ("sum", B, C))
+# Things of several sizes, some sizes with several things.
+MIXED = ("sum", AB, ("pair", ABC, AB))
+NAT = ("pair", A, ("row", A))
+PLAIN = {"u": UNIT, "m": MIXED}
 
 BUNCHES = ("row", "bag", "set")
 
@@ -21,6 +28,14 @@ JUNK = [
     {"a": None}, {"a": "unit"}, {"a": ["unit"]}, {1: ("unit",)}, {None: ("unit",)}, {("unit",): ("unit",)},
     {"A": ("unit",)}, {"a": ("unit",), "b": True}, set(), {"unit"}, frozenset(),
 ]
+
+
+def refused(case, error, ask, *args):
+    """The refusal, which must be of that very class."""
+    with case.assertRaises(error) as caught:
+        ask(*args)
+    case.assertIs(caught.exception.__class__, error)
+    return caught.exception
 
 
 def name(word):
@@ -45,6 +60,28 @@ def of_parts(many):
 def of_depth(deep, kind="row"):
     """A making in which the last part stands so deep."""
     return A if deep == 0 else (kind, of_depth(deep - 1, kind))
+
+
+BY_HAND = {
+    "unfolded": {"w": ("sum", UNIT, ("pair", A, name("w")))},
+    "trees": {"t": ("sum", A, ("pair", name("t"), name("t")))},
+    "bare trees": {"t": ("sum", UNIT, ("pair", A, ("pair", name("t"), name("t"))))},
+    "trees of rows": {"t": ("pair", A, ("row", name("t")))},
+    "trees of bags": {"t": ("pair", A, ("bag", name("t")))},
+    "trees of sets": {"t": ("pair", AB, ("set", name("t")))},
+    "trees of bags of sets": {"t": ("pair", A, ("bag", ("pair", B, ("set", name("t")))))},
+    "two words": {"p": ("sum", A, ("pair", B, name("q"))), "q": ("sum", UNIT, ("pair", name("p"), name("p")))},
+    "three words": {
+        "p": ("pair", A, ("bag", name("q"))), "q": ("pair", B, ("row", ("pair", A, name("r")))),
+        "r": ("sum", name("p"), ("set", name("p"))),
+    },
+    "no things": {
+        "p": ("pair", name("p"), name("p")), "q": ("pair", A, name("p")), "r": ("sum", name("q"), ("row", name("q"))),
+    },
+    "late things": {"p": ("pair", name("q"), name("q")), "q": ("sum", ("pair", A, B), ("pair", name("q"), name("p")))},
+    "bare on the left": {"p": ("sum", A, ("pair", ("pair", name("e"), B), name("p"))), "e": ("sum", UNIT, name("p"))},
+    "bare on the right": {"p": ("sum", A, ("pair", name("p"), ("pair", B, name("e")))), "e": ("sum", UNIT, name("p"))},
+}
 
 
 def inner(making):
@@ -184,11 +221,22 @@ def things(book, making, most):
         known = grown
 
 
-def listed_counts(book, making, most):
+def in_told_order(book, making, most):
+    """All things up to a size in the told order."""
     found = sorted(things(book, making, most), key=cmp_to_key(lambda s, t: compare(book, making, s, t)))
     # The told order must part all things, or bags and sets would not be what they are said to be.
     assert all(compare(book, making, s, t) < 0 for s, t in zip(found, found[1:]))
-    return [sum(1 for thing in found if size(thing) == k) for k in range(most + 1)]
+    return found
+
+
+def told_lists(book, making, most):
+    """For each size up to most the list of things in the told order."""
+    found = in_told_order(book, making, most)
+    return [[thing for thing in found if size(thing) == k] for k in range(most + 1)]
+
+
+def listed_counts(book, making, most):
+    return [len(found) for found in told_lists(book, making, most)]
 
 
 # Counts by whole series: a road for sizes too great for a listing.
@@ -248,6 +296,47 @@ def series_counts(book, making, most):
         known = grown
 
 
+# Makings and books that many tests go through.
+
+EVERY_KIND = [
+    NONE, UNIT, A, AB, ABC, MIXED, ("sum", UNIT, A), ("sum", UNIT, UNIT), ("sum", NONE, B), ("pair", A, B),
+    ("pair", UNIT, A), ("pair", NONE, A), ("pair", A, NONE), ("pair", ABC, ABC), name("u"), ("pair", name("u"), A),
+    ("pair", ("sum", UNIT, AB), ("sum", UNIT, ABC)),
+]
+EVERY_BUNCH = [
+    making for kind in BUNCHES for making in [
+        *[(kind, part) for part in (NONE, A, AB, ABC, MIXED, NAT, ("pair", AB, ("sum", UNIT, AB)), ("pair", A, NONE),
+                                    ("sum", A, ("pair", A, ("pair", A, A))))],
+        ("pair", (kind, AB), (kind, A)), ("sum", (kind, AB), (kind, AB)),
+        *[(kind, ("pair", A, (within, A))) for within in BUNCHES],
+        *[(kind, ("pair", AB, (within, AB))) for within in BUNCHES],
+        *[(kind, ("sum", A, ("pair", (within, name("m")), B))) for within in BUNCHES],
+    ]
+]
+
+
+def small_cases(chance, many):
+    """Books and makings of every kind, by hand and by chance, whose things up to size 4 are few."""
+    for making in EVERY_KIND + EVERY_BUNCH:
+        yield PLAIN, making
+    for book in BY_HAND.values():
+        for word in book:
+            yield book, name(word)
+            if not may_be_bare(book, name(word)):
+                yield from [(book, (kind, name(word))) for kind in BUNCHES]
+    while many:
+        book = some_fair_book(chance, chance.randint(1, 3), 3)
+        making = some_making_of(chance, book, 3)
+        try:
+            found = len(things(book, making, 4))
+        except TooMany:
+            continue
+        # Makings without things say little, and come up often.
+        if found > 3:
+            many -= 1
+            yield book, making
+
+
 # Makings by chance that is the same each time.
 
 
@@ -281,3 +370,23 @@ def some_making_of(chance, book, deep):
         making = some_making(chance, list(book), deep)
         if is_of(book, making):
             return making
+
+
+def crowded(chance, words, many, deep):
+    """A making of just so many parts, nested no deeper than that, in which rows, bags and sets are of fair makings."""
+    if many == 1:
+        return chance.choice([A, B, UNIT, name(chance.choice(words)), name(chance.choice(words))])
+    if many == 2:
+        return (chance.choice(BUNCHES), chance.choice([A, B]))
+    room = 2 ** deep - 1
+    if many >= 4 and many - 3 <= 2 ** (deep - 1) - 1 and chance.random() < 0.4:
+        return (chance.choice(BUNCHES), ("pair", A, crowded(chance, words, many - 3, deep - 2)))
+    least, most = max(1, many - 1 - room), min(room, many - 2)
+    left = chance.randint(least, most)
+    kind = chance.choice(["sum", "pair"])
+    return (kind, crowded(chance, words, left, deep - 1), crowded(chance, words, many - 1 - left, deep - 1))
+
+
+def crowded_book(chance):
+    words = ["a", "bb", "ccc", "dddd", "eeeee", "ffffff", "ggggggg", "hhhhhhhh"]
+    return {word: ("pair", A, crowded(chance, words, 38, 5)) for word in words}

@@ -8,44 +8,10 @@ from math import comb
 from countworks.counts import count, counts, first_size
 from countworks.errors import BadBook, BadMaking, BadNumber, NoRule
 from tests import helper
-from tests.helper import A, B, BUNCHES, JUNK, NONE, UNIT, name, of_depth, of_parts, total
-
-C = ("atom", "c")
-AB = ("sum", A, B)
-ABC = ("sum", A, ("sum", B, C))
-# Things of several sizes, some sizes with several things.
-MIXED = ("sum", AB, ("pair", ABC, AB))
-NAT = ("pair", A, ("row", A))
-PLAIN = {"u": UNIT, "m": MIXED}
-
-BY_HAND = {
-    "unfolded": {"w": ("sum", UNIT, ("pair", A, name("w")))},
-    "trees": {"t": ("sum", A, ("pair", name("t"), name("t")))},
-    "bare trees": {"t": ("sum", UNIT, ("pair", A, ("pair", name("t"), name("t"))))},
-    "trees of rows": {"t": ("pair", A, ("row", name("t")))},
-    "trees of bags": {"t": ("pair", A, ("bag", name("t")))},
-    "trees of sets": {"t": ("pair", AB, ("set", name("t")))},
-    "trees of bags of sets": {"t": ("pair", A, ("bag", ("pair", B, ("set", name("t")))))},
-    "two words": {"p": ("sum", A, ("pair", B, name("q"))), "q": ("sum", UNIT, ("pair", name("p"), name("p")))},
-    "three words": {
-        "p": ("pair", A, ("bag", name("q"))), "q": ("pair", B, ("row", ("pair", A, name("r")))),
-        "r": ("sum", name("p"), ("set", name("p"))),
-    },
-    "no things": {
-        "p": ("pair", name("p"), name("p")), "q": ("pair", A, name("p")), "r": ("sum", name("q"), ("row", name("q"))),
-    },
-    "late things": {"p": ("pair", name("q"), name("q")), "q": ("sum", ("pair", A, B), ("pair", name("q"), name("p")))},
-    "bare on the left": {"p": ("sum", A, ("pair", ("pair", name("e"), B), name("p"))), "e": ("sum", UNIT, name("p"))},
-    "bare on the right": {"p": ("sum", A, ("pair", name("p"), ("pair", B, name("e")))), "e": ("sum", UNIT, name("p"))},
-}
-
-
-def refused(case, error, ask, *args):
-    """The refusal, which must be of that very class."""
-    with case.assertRaises(error) as caught:
-        ask(*args)
-    case.assertIs(caught.exception.__class__, error)
-    return caught.exception
+from tests.helper import (
+    A, AB, ABC, B, BUNCHES, BY_HAND, JUNK, NAT, NONE, PLAIN, UNIT, crowded, crowded_book, name, of_depth, of_parts,
+    refused, total,
+)
 
 
 class SmallSizesTest(unittest.TestCase):
@@ -58,27 +24,18 @@ class SmallSizesTest(unittest.TestCase):
             self.assertEqual(first_size(book, making, most), first)
 
     def test_every_kind(self):
-        for making in (NONE, UNIT, A, AB, ABC, MIXED, ("sum", UNIT, A), ("sum", UNIT, UNIT), ("sum", NONE, B),
-                       ("pair", A, B), ("pair", UNIT, A), ("pair", NONE, A), ("pair", A, NONE), ("pair", ABC, ABC),
-                       ("pair", ("sum", UNIT, AB), ("sum", UNIT, ABC)), name("u"), ("pair", name("u"), A)):
+        for making in helper.EVERY_KIND + helper.EVERY_BUNCH:
             self.told(PLAIN, making, 4)
 
     def test_rows_bags_sets(self):
         for kind in BUNCHES:
-            for part in (NONE, A, AB, ABC, MIXED, NAT, ("pair", AB, ("sum", UNIT, AB)), ("pair", A, NONE),
-                         ("sum", A, ("pair", A, ("pair", A, A)))):
-                self.told(PLAIN, (kind, part), 4)
             self.told(PLAIN, (kind, A), 6)
             self.told(PLAIN, (kind, NAT), 6)
-            self.told(PLAIN, ("pair", (kind, AB), (kind, A)), 4)
-            self.told(PLAIN, ("sum", (kind, AB), (kind, AB)), 4)
 
     def test_each_within_each(self):
         for outer in BUNCHES:
             for within in BUNCHES:
                 self.told(PLAIN, (outer, ("pair", A, (within, A))), 6)
-                self.told(PLAIN, (outer, ("pair", AB, (within, AB))), 4)
-                self.told(PLAIN, (outer, ("sum", A, ("pair", (within, name("m")), B))), 4)
                 self.told(PLAIN, (outer, ("pair", A, (within, ("pair", A, (outer, AB))))), 4)
 
     def test_rules_that_lead_to_themselves(self):
@@ -183,26 +140,6 @@ class KnownNumbersTest(unittest.TestCase):
         self.assertEqual(counts(PLAIN, NONE, 40), [0] * 41)
         self.assertEqual(counts(BY_HAND["no things"], name("p"), 40), [0] * 41)
         self.assertEqual(counts(BY_HAND["no things"], name("r"), 40), [1] + [0] * 40)
-
-
-def crowded(chance, words, many, deep):
-    """A making of just so many parts, nested no deeper than that, in which rows, bags and sets are of fair makings."""
-    if many == 1:
-        return chance.choice([A, B, UNIT, name(chance.choice(words)), name(chance.choice(words))])
-    if many == 2:
-        return (chance.choice(BUNCHES), chance.choice([A, B]))
-    room = 2 ** deep - 1
-    if many >= 4 and many - 3 <= 2 ** (deep - 1) - 1 and chance.random() < 0.4:
-        return (chance.choice(BUNCHES), ("pair", A, crowded(chance, words, many - 3, deep - 2)))
-    least, most = max(1, many - 1 - room), min(room, many - 2)
-    left = chance.randint(least, most)
-    kind = chance.choice(["sum", "pair"])
-    return (kind, crowded(chance, words, left, deep - 1), crowded(chance, words, many - 1 - left, deep - 1))
-
-
-def crowded_book(chance):
-    words = ["a", "bb", "ccc", "dddd", "eeeee", "ffffff", "ggggggg", "hhhhhhhh"]
-    return {word: ("pair", A, crowded(chance, words, 38, 5)) for word in words}
 
 
 class GreatSizesTest(unittest.TestCase):

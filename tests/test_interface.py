@@ -16,6 +16,21 @@ FUNCTIONS = {
         "count": ["book", "making", "size"], "counts": ["book", "making", "most"],
         "first_size": ["book", "making", "most"],
     },
+    "things": {
+        "listing": ["book", "making", "size"], "is_thing": ["book", "making", "thing"], "size_of": ["thing"],
+        "is_ahead": ["book", "making", "one", "other"],
+    },
+    "numbers": {
+        "number_of": ["book", "making", "thing"], "thing_at": ["book", "making", "size", "number"],
+        "next_thing": ["book", "making", "thing"],
+    },
+    "draws": {
+        "digits_for": ["many"], "drawn_number": ["many", "tape"], "drawn": ["book", "making", "size", "tape"],
+    },
+    "series": {
+        "is_series": ["thing"], "added": ["one", "other"], "times": ["one", "other"], "rows_of": ["one"],
+        "bags_of": ["one"], "sets_of": ["one"], "inside": ["one", "other"], "spread": ["one", "by"],
+    },
 }
 
 
