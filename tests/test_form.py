@@ -45,6 +45,27 @@ def own_names():
     return found
 
 
+def used_names(tree):
+    """All names that stand in a file as such, not in strings and comments."""
+    found = set()
+    for node in ast.walk(tree):
+        for field in ("id", "attr", "arg", "name", "asname"):
+            if isinstance(getattr(node, field, None), str):
+                found.add(getattr(node, field))
+    return found
+
+
+def plain_value(node, functions):
+    """Whether what is assigned at module level is written out, or made of functions defined above."""
+    if isinstance(node, ast.Name):
+        return node.id in functions
+    if isinstance(node, ast.Dict):
+        inner = (ast.Dict, ast.List)
+        return all(plain_value(part, functions) and not isinstance(part, inner) for part in node.keys + node.values)
+    ast.literal_eval(node)
+    return True
+
+
 class FormTest(unittest.TestCase):
     def test_files(self):
         self.assertIn("__init__.py", [path.name for path in FILES])
@@ -79,7 +100,23 @@ class FormTest(unittest.TestCase):
         for path in FILES:
             words = set(re.findall(r"\w+", path.read_text()))
             self.assertEqual(words & BARRED_WORDS, set(), path.name)
-            self.assertEqual(words & BARRED_NAMES, set(), path.name)
+        for file, tree in trees():
+            self.assertEqual(used_names(tree) & BARRED_NAMES, set(), file)
+
+    def test_numbers_and_strings(self):
+        for file, tree in trees():
+            for node in ast.walk(tree):
+                if isinstance(node, ast.Constant) and isinstance(node.value, (str, bytes)):
+                    self.assertNotIn("%", str(node.value), (file, node.lineno))
+                if isinstance(node, ast.BinOp) and isinstance(node.op, ast.Pow):
+                    self.assertIn(getattr(node.right, "value", None), range(65), (file, node.lineno))
+
+    def test_sets_are_not_iterated(self):
+        for file, tree in trees():
+            for node in ast.walk(tree):
+                if isinstance(node, (ast.For, ast.comprehension)):
+                    self.assertNotIsInstance(node.iter, (ast.Set, ast.SetComp), file)
+                    self.assertNotEqual(getattr(getattr(node.iter, "func", None), "id", None), "set", file)
 
     def test_barred_statements(self):
         for file, tree in trees():
@@ -121,11 +158,12 @@ class FormTest(unittest.TestCase):
                     self.assertEqual(at, 0, (file, node.lineno))
                 if isinstance(node, ast.ImportFrom):
                     bound += [alias.asname or alias.name for alias in node.names]
+                if isinstance(node, ast.Assign):
+                    functions = [one.name for one in tree.body[:at] if isinstance(one, ast.FunctionDef)]
+                    self.assertTrue(plain_value(node.value, functions), (file, node.lineno))
+                    bound += [target.id for target in node.targets]
                 if isinstance(node, (ast.FunctionDef, ast.ClassDef)):
                     bound.append(node.name)
-                if isinstance(node, ast.Assign):
-                    bound += [target.id for target in node.targets]
-                    ast.literal_eval(node.value)
             self.assertEqual(len(bound), len(set(bound)), file)
 
 

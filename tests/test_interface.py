@@ -31,6 +31,24 @@ FUNCTIONS = {
         "is_series": ["thing"], "added": ["one", "other"], "times": ["one", "other"], "rows_of": ["one"],
         "bags_of": ["one"], "sets_of": ["one"], "inside": ["one", "other"], "spread": ["one", "by"],
     },
+    "fractions": {
+        "is_plain": ["book", "making"], "fraction": ["book", "making"], "terms": ["pair", "most"],
+        "parted_size": ["book", "one", "other"], "going_on": ["book", "making"], "times_of": ["one", "other"],
+        "added_of": ["one", "other"],
+    },
+    "papers": {
+        "step_makes": ["book", "making", "step"], "paper_makes": ["book", "making", "paper"],
+        "led": ["book", "making", "paper", "thing"], "led_back": ["book", "making", "paper", "thing"],
+        "turned": ["book", "making", "paper"], "shows_alike": ["book", "one", "other", "paper"],
+    },
+    "letters": {
+        "by_letter": ["book", "making", "size", "letter"], "mean": ["book", "making", "size", "letter"],
+        "letters_in": ["book", "making", "most"],
+    },
+    "rings": {
+        "round_of": ["text"], "rings": ["letters", "size"], "how_many_rings": ["letters", "size"],
+        "simple_rings": ["letters", "size"], "how_many_simple": ["letters", "size"], "falls": ["text"],
+    },
 }
 
 

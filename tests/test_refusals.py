@@ -1,13 +1,18 @@
-"""Refusals of books and makings, the order of several refusals, and what stays: [1] and [3], for stages 3 to 6."""
+"""Refusals of books and makings, the order of several refusals, and what stays: [1] and [3], from stage 3 on."""
 
 import copy
 import unittest
 
 from countworks.draws import drawn, drawn_number
 from countworks.errors import (
-    BadBook, BadMaking, BadNumber, BadSeries, BadTape, BadThing, CountError, Ended, Full, NoRule,
+    BadBook, BadMaking, BadNumber, BadSeries, BadTape, BadThing, BadWord, CountError, Ended, Full, NoRule, NoStep,
+    NotPlain,
 )
+from countworks.fractions import fraction, going_on, is_plain, parted_size, terms
+from countworks.letters import by_letter, letters_in, mean
 from countworks.numbers import next_thing, number_of, thing_at
+from countworks.papers import led, led_back, paper_makes, shows_alike, step_makes, turned
+from countworks.rings import rings, round_of
 from countworks.series import added, inside, spread, times
 from countworks.things import is_ahead, is_thing, listing
 from tests.helper import A, AB, BUNCHES, BY_HAND, JUNK, PLAIN, UNIT, name, of_depth, of_parts, refused
@@ -21,6 +26,19 @@ ASKS = [
     (thing_at, [(1, 0), (True, 0), (41, 0), (1, True), (1, -1), (None, None)]),
     (next_thing, [("a",), (None,), ([],)]),
     (drawn, [(1, []), (True, []), (41, []), (1, [True]), (1, None), (None, None)]),
+    (is_plain, [()]),
+    (fraction, [()]),
+    (going_on, [()]),
+    (parted_size, [(A,), (None,), (("bag", A),), (name("zz"),)]),
+    (step_makes, [(("drop", (), "back"),), (None,), (("swap", (), "there"),), ([],)]),
+    (paper_makes, [([],), (None,), ([None],), ((),)]),
+    (led, [([], "a"), (None, "a"), ([], None), ([None], None)]),
+    (led_back, [([], "a"), (None, "a"), ([], None), ([None], None)]),
+    (turned, [([],), (None,), ([None],), ((),)]),
+    (shows_alike, [(A, []), (A, None), (None, []), (name("zz"), None)]),
+    (by_letter, [(1, "a"), (True, "a"), (25, "a"), (1, "A"), (None, None)]),
+    (mean, [(1, "a"), (True, "a"), (25, "a"), (0, "a"), (1, "A"), (None, None)]),
+    (letters_in, [(1,), (True,), (-1,), (25,), (None,)]),
 ]
 
 # A row of what may be bare in a making that names a word that lacks: BadMaking is told ahead of NoRule.
@@ -98,7 +116,27 @@ class OrderTest(unittest.TestCase):
             refused(self, BadNumber, listing, PLAIN, ("row", AB), size)
         refused(self, Full, listing, PLAIN, ("row", AB), 40)
 
+    def test_makings_ahead_of_what_is_plain(self):
+        for ask in (fraction, going_on):
+            refused(self, BadMaking, ask, PLAIN, ("bag", UNIT))
+            refused(self, BadMaking, ask, PLAIN, ("bag", None))
+            refused(self, NoRule, ask, PLAIN, ("bag", name("zz")))
+            refused(self, NotPlain, ask, PLAIN, ("bag", A))
+
+    def test_sizes_ahead_of_letters(self):
+        for ask in (by_letter, mean):
+            refused(self, BadNumber, ask, PLAIN, A, 25, None)
+            refused(self, BadWord, ask, PLAIN, A, 1, None)
+
+    def test_letters_ahead_of_sizes_ahead_of_full(self):
+        refused(self, BadWord, rings, "ba", True)
+        refused(self, BadNumber, rings, "abcd", 13)
+        refused(self, Full, rings, "abcd", 12)
+        refused(self, BadWord, round_of, "a" * 61)
+
     def test_series_ahead_of_numbers(self):
+        refused(self, BadSeries, terms, ((1,), (2,)), True)
+        refused(self, BadNumber, terms, ((1,), (1,)), True)
         refused(self, BadSeries, spread, (True,), True)
         refused(self, BadSeries, spread, [], 0)
         refused(self, BadNumber, spread, (1,), True)
@@ -108,6 +146,7 @@ class OrderTest(unittest.TestCase):
             (BadThing, number_of, PLAIN, A, "b"), (BadNumber, thing_at, PLAIN, A, 1, 1), (BadTape, drawn, PLAIN, A, 1, 0),
             (Ended, drawn, PLAIN, AB, 1, []), (Full, listing, PLAIN, ("row", AB), 30), (BadSeries, times, (), (0,)),
             (BadBook, listing, {}, A, 1), (BadMaking, listing, PLAIN, (), 1), (NoRule, listing, PLAIN, name("zz"), 1),
+            (NotPlain, fraction, PLAIN, ("bag", A)), (NoStep, step_makes, PLAIN, A, None), (BadWord, rings, "ba", 3),
         ]
         classes = [error for error, *rest in asks]
         for error, ask, *hand in asks:
