@@ -49,6 +49,22 @@ FUNCTIONS = {
         "round_of": ["text"], "rings": ["letters", "size"], "how_many_rings": ["letters", "size"],
         "simple_rings": ["letters", "size"], "how_many_simple": ["letters", "size"], "falls": ["text"],
     },
+    "avoiding": {
+        "avoiders": ["letters", "bad", "size"], "how_many_avoid": ["letters", "bad", "size"],
+        "is_ended": ["letters", "bad"], "first_avoider": ["letters", "bad", "size"],
+        "avoider_at": ["letters", "bad", "size", "number"],
+    },
+    "parting": {"laid_over": ["some"], "unlike_of": ["some"], "odd_of": ["some"]},
+    "texts": {
+        "making_text": ["making"], "read_making": ["text"], "book_text": ["book"], "read_book": ["text"],
+        "thing_text": ["thing"], "read_thing": ["text"],
+    },
+}
+
+
+SHELF = {
+    "__init__": ["book"], "put": ["word", "making"], "drop": ["word"], "undo": [], "all_rules": [],
+    "counts": ["word", "most"], "deeds": [], "twin": [],
 }
 
 
@@ -62,6 +78,31 @@ class InterfaceTest(unittest.TestCase):
                     self.assertEqual(list(told), arguments)
                     for one in told.values():
                         self.assertEqual((one.kind, one.default), (one.POSITIONAL_OR_KEYWORD, one.empty))
+
+    def test_arguments_by_name_alone(self):
+        found = importlib.import_module("countworks.parting")
+        for name in ("parts", "how_many_parts"):
+            told = list(inspect.signature(getattr(found, name)).parameters.values())
+            self.assertEqual([(one.name, one.default) for one in told], [
+                ("number", inspect.Parameter.empty), ("most", 60), ("odd", False), ("unlike", False),
+            ])
+            self.assertEqual([one.kind == one.KEYWORD_ONLY for one in told], [False, True, True, True])
+
+    def test_shelf(self):
+        shelf = importlib.import_module("countworks.shelves").Shelf
+        for name, arguments in SHELF.items():
+            with self.subTest(name=name):
+                # Each method stands in the class itself.
+                self.assertIn(name, vars(shelf))
+                told = inspect.signature(vars(shelf)[name]).parameters
+                self.assertEqual(list(told), ["self"] + arguments)
+                for one in told.values():
+                    self.assertEqual((one.kind, one.default), (one.POSITIONAL_OR_KEYWORD, one.empty))
+
+    def test_no_stage_is_left_out(self):
+        for module in ("errors", "shelves", *FUNCTIONS):
+            importlib.import_module("countworks." + module)
+        self.assertEqual(len({"errors", "shelves", *FUNCTIONS}), 16)
 
     def test_the_package_binds_nothing(self):
         ask = "import countworks; print([name for name in vars(countworks) if not name.startswith('__')])"
